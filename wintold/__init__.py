@@ -1,0 +1,1 @@
+"""Wintold: matches told back from the points they brought."""
