@@ -1,6 +1,7 @@
 """What several tests need: things of any kind, and a plain going through of all ends."""
 
 import copy
+import sys
 from itertools import combinations, product
 
 from wintold import errors
@@ -79,6 +80,11 @@ def anything_but_points(n):
     return anything() + [[0] * (n + 1), [0] * (n - 1), (0,) * n, [None] * n, [[0]] * n, {0: 0}]
 
 
+def anything_but_numbers():
+    """Things of any kind of which none is a whole number."""
+    return [thing for thing in anything() if type(thing) is not int]
+
+
 def name_of(thing):
     """A name for a message; an own object may not be asked for one."""
     if isinstance(thing, (Own, Agreeing)) or type(thing) is Angry:
@@ -93,14 +99,35 @@ def matches_of(n):
     return list(combinations(range(n), 2))
 
 
-def outcomes_of(kind, i, j):
+def all_outcomes(kind, i, j):
     return [i, None, j] if kind == "ties" else [i, j]
 
 
 def leagues_of(kind, n):
     """All leagues of the kind and number of players: each match not played, or with each outcome."""
-    ways = [[()] + [((i, j, w),) for w in outcomes_of(kind, i, j)] for i, j in matches_of(n)]
+    ways = [[()] + [((i, j, w),) for w in all_outcomes(kind, i, j)] for i, j in matches_of(n)]
     return [(kind, n, [match for part in parts for match in part]) for parts in product(*ways)]
+
+
+def all_played(kind, n, turn):
+    """Every match played, the outcomes one after the other in turn."""
+    played = []
+    for at, (i, j) in enumerate(matches_of(n)):
+        ways = all_outcomes(kind, i, j)
+        played.append((i, j, ways[(at + turn) % len(ways)]))
+    return (kind, n, played)
+
+
+def some_leagues():
+    """Leagues of both kinds and of 2 to 6 players with no, some and all matches played."""
+    found = []
+    for kind in ("plain", "ties"):
+        for n in range(2, 7):
+            found.append((kind, n, []))
+            for turn in range(3):
+                whole = all_played(kind, n, turn)
+                found += [whole, (kind, n, whole[2][:1]), (kind, n, whole[2][1:]), (kind, n, whole[2][::2])]
+    return found
 
 
 def ends_of(league):
@@ -109,7 +136,7 @@ def ends_of(league):
     known = {(i, j): w for i, j, w in played}
     ways = []
     for i, j in matches_of(n):
-        outcomes = [known[(i, j)]] if (i, j) in known else outcomes_of(kind, i, j)
+        outcomes = [known[(i, j)]] if (i, j) in known else all_outcomes(kind, i, j)
         ways.append([(i, j, w) for w in outcomes])
     return [(kind, n, list(end)) for end in product(*ways)]
 
@@ -127,6 +154,59 @@ def brought(league):
     return points
 
 
+def ends_by_points(league):
+    """All ends of the league, in order, by the points that they bring."""
+    found = {}
+    for end in ends_of(league):
+        found.setdefault(tuple(brought(end)), []).append(end)
+    return found
+
+
+def points_near(points):
+    """Points beside some: one or two more or fewer for a player, also moved to the next one."""
+    found = []
+    for at in range(len(points)):
+        for by in (-2, -1, 1, 2):
+            other = list(points)
+            other[at] += by
+            found.append(list(other))
+            other[at - 1] -= by
+            found.append(other)
+    return found
+
+
+def points_far(n):
+    """Points that no end brings: below 0, very large, of another sum."""
+    far = 10 ** 25
+    return [[-1] * n, [0] * n, [far] * n, [-far] * n, [far, -far] + [0] * (n - 2), [11] * n, [-1] + [5] * (n - 1)]
+
+
+def points_to_ask(league, table, step=1):
+    """Points that ends bring, every step-th of them, with such near to the first of these, and far ones."""
+    brought_ones = [list(points) for points in sorted(table)[::step]]
+    return brought_ones + points_near(brought_ones[0]) + points_near(brought_ones[-1]) + points_far(league[1])
+
+
+def with_match(league, match):
+    """The league with one more match played."""
+    kind, n, played = league
+    return (kind, n, sorted(played + [match], key=lambda one: one[:2]))
+
+
+def renamed(league, names):
+    """The league with its players called otherwise: names[player] is what the player is called."""
+    played = []
+    for i, j, w in league[2]:
+        low, high = sorted((names[i], names[j]))
+        played.append((low, high, None if w is None else names[w]))
+    return (league[0], league[1], sorted(played, key=lambda match: match[:2]))
+
+
+def points_renamed(points, names):
+    """The points as they are told when the players are called otherwise."""
+    return [points[names.index(player)] for player in range(len(points))]
+
+
 def rising_lists(n):
     """All sets of players, shorter ones first, then as lists are."""
     return [list(players) for size in range(1, n + 1) for players in combinations(range(n), size)]
@@ -141,6 +221,23 @@ def refused_with(test, error, call, *given):
     for other in NAMED:
         if other is not error:
             test.assertNotIsInstance(caught.exception, other)
+
+
+def calls_made(call, *given):
+    """How many functions of the program a call runs, itself among them."""
+    counted = []
+
+    def note(frame, event, more):
+        if event == "call" and "wintold" in frame.f_globals.get("__name__", ""):
+            counted.append(1)
+
+    before = sys.getprofile()
+    sys.setprofile(note)
+    try:
+        call(*given)
+    finally:
+        sys.setprofile(before)
+    return len(counted)
 
 
 def left_alone(test, call, *given):

@@ -24,6 +24,20 @@ FUNCTIONS = {
         "set_shows": ["league", "points", "thing"],
         "first_set": ["league", "points"],
     },
+    "ends": {
+        "first_end": ["league", "points"],
+        "count_ends": ["league", "points"],
+        "end_by": ["league", "points", "number"],
+        "number_of": ["league", "points", "thing"],
+    },
+    "sure": {
+        "outcomes_of": ["league", "points", "i", "j"],
+        "sure_matches": ["league", "points"],
+    },
+    "allpoints": {
+        "count_points": ["league"],
+        "all_points": ["league"],
+    },
 }
 ERRORS = [
     "NoLeague", "NoPoints", "NoNumber", "NoEnd", "NoMatch", "NoOutcome", "NoPlayer", "TooMany", "NoText", "NoName",

@@ -2,34 +2,13 @@
 
 import unittest
 
-from tests.helper import Agreeing, Angry, Own, anything, brought, leagues_of, left_alone, matches_of, name_of
-from tests.helper import outcomes_of, refused_with
+from tests.helper import Agreeing, Angry, Own, all_played, anything, brought, leagues_of, left_alone, matches_of
+from tests.helper import name_of, refused_with, some_leagues
 from wintold.errors import NoLeague
 from wintold.leagues import is_league, matches_left, points_had
 
 PLAIN = [(0, 1, 0), (0, 3, 3), (2, 3, 2)]
 TIES = [(0, 1, 0), (0, 3, None), (2, 3, 2)]
-
-
-def all_played(kind, n, turn):
-    """Every match played, the outcomes one after the other in turn."""
-    played = []
-    for at, (i, j) in enumerate(matches_of(n)):
-        ways = outcomes_of(kind, i, j)
-        played.append((i, j, ways[(at + turn) % len(ways)]))
-    return (kind, n, played)
-
-
-def some_leagues():
-    """Leagues of both kinds and of 2 to 6 players with no, some and all matches played."""
-    found = []
-    for kind in ("plain", "ties"):
-        for n in range(2, 7):
-            found.append((kind, n, []))
-            for turn in range(3):
-                whole = all_played(kind, n, turn)
-                found += [whole, (kind, n, whole[2][:1]), (kind, n, whole[2][1:]), (kind, n, whole[2][::2])]
-    return found
 
 
 def no_leagues():

@@ -41,9 +41,12 @@ def _is_played(kind, n, match):
     if not is_tuple_of(match, 3):
         return False
     i, j, w = match
-    if not is_player(i, n) or not is_player(j, n) or i >= j:
-        return False
-    return is_outcome(kind, i, j, w)
+    return is_match(n, i, j) and is_outcome(kind, i, j, w)
+
+
+def is_match(n, i, j):
+    """Tell of any two things whether they are the players of a match, the lower one first."""
+    return is_player(i, n) and is_player(j, n) and i < j
 
 
 def is_outcome(kind, i, j, w):
@@ -75,6 +78,29 @@ def worth_of(league):
     return WORTHS[league[0]]
 
 
+def outcomes_in_order(kind, i, j):
+    """List the outcomes that the match of i and j can have, as the ends are in order by them."""
+    return [w for w in (i, None, j) if is_outcome(kind, i, j, w)]
+
+
+def shares_of(kind, i, w):
+    """Tell what a match brings to its lower player i and to the other one."""
+    if w is None:
+        return 1, 1
+    if w == i:
+        return WORTHS[kind], 0
+    return 0, WORTHS[kind]
+
+
+def points_behind(points, i, j, shares):
+    """Give the points anew, as a tuple, with what the match of i and j brings to them."""
+    to_i, to_j = shares
+    behind = list(points)
+    behind[i] += to_i
+    behind[j] += to_j
+    return tuple(behind)
+
+
 def matches_left(league):
     """List the matches that are not played yet, as tuples (i, j), in order."""
     check_league(league)
@@ -86,15 +112,17 @@ def matches_left(league):
 def points_had(league):
     """List the points that each player has from the matches played."""
     check_league(league)
-    _, n, played = league
-    had = [0] * n
+    kind, n, played = league
+    had = (0,) * n
     for i, j, w in played:
-        if w is None:
-            had[i] += 1
-            had[j] += 1
-        else:
-            had[w] += worth_of(league)
-    return had
+        had = points_behind(had, i, j, shares_of(kind, i, w))
+    return list(had)
+
+
+def with_played(league, more):
+    """Make the league anew, with more of its matches played."""
+    kind, n, played = league
+    return (kind, n, sorted(played + more, key=lambda match: (match[0], match[1])))
 
 
 def is_end(league, points, thing):
