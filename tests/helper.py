@@ -11,6 +11,8 @@ NAMED = [
     errors.NoPlayer, errors.TooMany, errors.NoText, errors.NoName, errors.NoRow,
 ]
 WORTHS = {"plain": 1, "ties": 2}
+# The signs of texts of which something is promised.
+SIGNS = [sign for sign in map(chr, range(ord(" "), ord("~") + 1)) if sign != "%"] + ["\t", "\n"]
 
 
 class Own:
@@ -38,6 +40,13 @@ class AngryTuple(tuple):
     """An own object below a tuple, that answers with an error."""
 
     __eq__ = __ne__ = __len__ = __iter__ = __getitem__ = __bool__ = __repr__ = Angry.fail
+
+
+class AngryText(str):
+    """An own object below a text, that answers with an error."""
+
+    __eq__ = __ne__ = __len__ = __iter__ = __getitem__ = __contains__ = __bool__ = __repr__ = __str__ = Angry.fail
+    split = partition = startswith = removeprefix = __hash__ = Angry.fail
 
 
 class Agreeing:
@@ -78,6 +87,11 @@ def anything():
 def anything_but_points(n):
     """Things of any kind of which none is points for n players."""
     return anything() + [[0] * (n + 1), [0] * (n - 1), (0,) * n, [None] * n, [[0]] * n, {0: 0}]
+
+
+def anything_but_texts():
+    """Things of any kind of which none is a text."""
+    return [thing for thing in anything() if type(thing) is not str] + [AngryText("plain 3"), AngryText("show a")]
 
 
 def anything_but_numbers():
@@ -238,6 +252,17 @@ def calls_made(call, *given):
     finally:
         sys.setprofile(before)
     return len(counted)
+
+
+def texts_near(text):
+    """Texts that are one step beside a text: with a sign less, a sign more, another sign, or two changed about."""
+    found = {text.upper(), text.lower(), text + text, " " + text, text + " "}
+    for at in range(len(text) + 1):
+        ahead, behind = text[:at], text[at:]
+        found |= {ahead, behind, ahead + behind[1:], ahead + behind[1:2] + behind[:1] + behind[2:]}
+        for sign in SIGNS:
+            found |= {ahead + sign + behind, ahead + sign + behind[1:]}
+    return sorted(found)
 
 
 def left_alone(test, call, *given):

@@ -38,6 +38,39 @@ FUNCTIONS = {
         "count_points": ["league"],
         "all_points": ["league"],
     },
+    "firsts": {
+        "can_be_first": ["league", "player"],
+        "can_be_first_alone": ["league", "player"],
+        "first_end_for": ["league", "player"],
+        "least_points": ["league", "player"],
+        "most_points": ["league", "player"],
+    },
+    "texts": {
+        "show_league": ["league"],
+        "read_league": ["text"],
+        "show_points": ["points"],
+        "read_points": ["text"],
+    },
+}
+CLASSES = {
+    "keeper": {
+        "Keeper": {
+            "__init__": ["self", "league", "points"],
+            "play": ["self", "i", "j", "w"],
+            "back": ["self"],
+            "league": ["self"],
+            "count": ["self"],
+            "sure": ["self"],
+            "played": ["self"],
+        },
+    },
+    "desk": {
+        "Desk": {
+            "__init__": ["self"],
+            "say": ["self", "row"],
+            "names": ["self"],
+        },
+    },
 }
 ERRORS = [
     "NoLeague", "NoPoints", "NoNumber", "NoEnd", "NoMatch", "NoOutcome", "NoPlayer", "TooMany", "NoText", "NoName",
@@ -55,6 +88,18 @@ class TestNames(unittest.TestCase):
                     self.assertTrue(inspect.isfunction(function))
                     self.assertEqual(function.__module__, "wintold." + file)
                     self.assertEqual(list(inspect.signature(function).parameters), arguments)
+
+    def test_classes_stand_in_their_files_with_their_methods(self):
+        for file, classes in CLASSES.items():
+            module = import_module("wintold." + file)
+            for name, methods in classes.items():
+                own = getattr(module, name)
+                self.assertTrue(inspect.isclass(own))
+                self.assertEqual(own.__module__, "wintold." + file)
+                for method, arguments in methods.items():
+                    with self.subTest(name + " " + method):
+                        self.assertTrue(inspect.isfunction(vars(own)[method]))
+                        self.assertEqual(list(inspect.signature(vars(own)[method]).parameters), arguments)
 
     def test_errors_stand_in_their_file(self):
         self.assertEqual([error.__name__ for error in NAMED], ERRORS)
